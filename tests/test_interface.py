@@ -1,0 +1,75 @@
+"""The names, parameters and places of what the interface of the document lists."""
+
+import ast
+import importlib
+import inspect
+import unittest
+from pathlib import Path
+
+import barscribe
+from barscribe.metres import Metre
+from barscribe.shapes import Book
+
+PACKAGE = Path(barscribe.__file__).parent
+
+FUNCTIONS = {
+    "metres": {"is_tree": "thing"},
+    "shapes": {"shape": "metre x y", "is_shape": "thing"},
+    "writings": {"is_writing": "metre book thing", "writings": "metre book x y"},
+    "far": {"fewest": "metre book x y", "how_many": "metre book x y", "best": "metre book x y"},
+}
+
+METHODS = {
+    "metres": {"Metre": {"__init__": "tree", "__eq__": None, "is_point": "thing", "level": "point", "nodes": ""}},
+    "shapes": {
+        "Book": {
+            "__init__": "shapes", "every": "", "__len__": "", "__contains__": None, "__or__": None, "__and__": None,
+            "__sub__": None, "__eq__": None,
+        }
+    },
+}
+
+# Each module uses only modules that stand before it.
+MODULES = ["errors", "metres", "shapes", "writings", "growing", "tops", "far"]
+
+
+def tree_of(module):
+    return ast.parse((PACKAGE / (module + ".py")).read_text())
+
+
+class InterfaceTest(unittest.TestCase):
+    def test_functions_and_their_parameters(self):
+        for module, functions in FUNCTIONS.items():
+            defined = {item.name for item in tree_of(module).body if isinstance(item, ast.FunctionDef)}
+            for name, parameters in functions.items():
+                self.assertIn(name, defined)
+                function = getattr(importlib.import_module("barscribe." + module), name)
+                self.assertEqual(list(inspect.signature(function).parameters), parameters.split(), name)
+
+    def test_methods_stand_in_their_class(self):
+        for module, classes in METHODS.items():
+            bodies = {item.name: item.body for item in tree_of(module).body if isinstance(item, ast.ClassDef)}
+            for name, methods in classes.items():
+                found = {item.name: item for item in bodies[name] if isinstance(item, ast.FunctionDef)}
+                for method, parameters in methods.items():
+                    self.assertIn(method, found)
+                    if parameters is not None:
+                        self.assertEqual([arg.arg for arg in found[method].args.args][1:], parameters.split(), method)
+
+    def test_attributes_are_set_when_an_object_is_created(self):
+        self.assertTrue({"tree", "pulses", "depth"} <= set(vars(Metre((1, 1)))))
+        self.assertTrue({"shapes", "extra"} <= set(vars(Book())))
+
+    def test_the_package_itself_defines_nothing(self):
+        self.assertEqual((PACKAGE / "__init__.py").read_text(), "")
+
+    def test_modules_use_only_those_before_them(self):
+        self.assertEqual(sorted(path.stem for path in PACKAGE.glob("*.py")), sorted(MODULES + ["__init__"]))
+        for at, module in enumerate(MODULES):
+            for item in ast.walk(tree_of(module)):
+                if isinstance(item, ast.ImportFrom) and item.module.startswith("barscribe."):
+                    self.assertIn(item.module.partition(".")[2], MODULES[:at])
+
+
+if __name__ == "__main__":
+    unittest.main()

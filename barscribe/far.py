@@ -55,7 +55,7 @@ class Far:
         """The fewest signs of a note."""
         first = top_side(x)
         second = top_side(y)
-        table = [[_signs(entry) for entry in row] for row in self.top.table(first, second)]
+        table = self.top.signs(first, second)
         for move in moves_of(x, y):
             table = grown(self.growing.options(first, second, move), table)
             first, second = small_sides(moved_side(first, move[0]), moved_side(second, move[1]))
@@ -78,11 +78,6 @@ class Far:
             tails = _new_points(ends(second), depth, told)
             table = [_row(row, table, head, tails) for row, head in zip(options, heads)]
         return table[0][0]
-
-
-def _signs(entry):
-    """The signs of an entry alone."""
-    return None if entry is None else entry[0]
 
 
 def _untold(entry):

@@ -63,12 +63,8 @@ class Growing:
     """
 
     def __init__(self, book):
+        self.book = book
         self.near = {}
-        for first in range(8):
-            for last in range(first + 1, first + 8):
-                odd = first % 2 == 1 or last % 2 == 1
-                if odd and near_shape(first, last) in book:
-                    self.near[(first, last - first)] = True
         self.known = {}
 
     def options(self, x, y, move):
@@ -82,7 +78,13 @@ class Growing:
         return self.known[key]
 
     def _has_sign(self, first, last):
-        return (first % 8, last - first) in self.near
+        """Whether a sign of the book leads from one place to another one, one of the two being odd."""
+        if not 0 < last - first < 8:
+            return False
+        key = (first % 8, last - first)
+        if key not in self.near:
+            self.near[key] = near_shape(key[0], key[0] + key[1]) in self.book
+        return self.near[key]
 
     def _begins(self, x, word):
         """Each new start with the triples (signs, row, place) that lead from it to a start of before, doubled."""

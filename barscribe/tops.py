@@ -44,14 +44,13 @@ class Top:
         """For each start of x's side and each end of y's side the entry, None if the start is behind the end."""
         return [[self._entry(start, end) for end in ends(y)] for start in starts(x)]
 
+    def signs(self, x, y):
+        """The table with the fewest signs alone."""
+        return [[None if entry is None else entry[0] for entry in row] for row in self.table(x, y)]
+
     def _entry(self, start, end):
         if start > end:
             return None
-        x = point_of(start, DEPTH)
-        y = point_of(end, DEPTH)
-        if is_cut_bar(self.metre, x, y):
-            points = cut_bar(self.metre)
-            return (len(points) - 1, 1, points)
         if start not in self.rows:
             self.rows[start] = self._row_from(start)
         return self.rows[start][end]
@@ -65,6 +64,10 @@ class Top:
                 if (place, phase) in found:
                     self._lengthen(found, place, phase)
             row[place] = merged(found.get((place, DOWN)), found.get((place, UP)))
+        last = len(self.levels) - 1
+        if is_cut_bar(self.metre, point_of(start, DEPTH), point_of(last, DEPTH)):
+            points = cut_bar(self.metre)
+            row[last] = (len(points) - 1, 1, points)
         return row
 
     def _behind(self, place):

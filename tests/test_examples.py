@@ -2,8 +2,14 @@
 
 import unittest
 
+from barscribe.alike import compare
 from barscribe.far import best, fewest, how_many
+from barscribe.hearing import allowed, heard
+from barscribe.losses import greatest_loss, loss
 from barscribe.metres import Metre
+from barscribe.moving import best_row, pieces, signs, ties
+from barscribe.needs import used
+from barscribe.rhythms import Rhythm
 from barscribe.shapes import Book, shape
 
 
@@ -32,6 +38,30 @@ class ExamplesTest(unittest.TestCase):
         note = ((0, ""), (0, "11"))
         self.assertEqual(fewest(self.metre, Book(), *note), 2)
         self.assertEqual(fewest(self.metre, Book([(1, -1, 1)]), *note), 1)
+        self.assertEqual(compare(self.metre, Book(), self.metre, Book([(1, -1, 1)])), ("parted", *note))
+
+    def test_losses(self):
+        metre = Metre((1, 1))
+        self.assertEqual(loss(metre, Book(), metre, Book.every(), (0, "01"), (1, "")), 1)
+        self.assertEqual(greatest_loss(metre, Book.every(), metre, Book())[:2], ("greatest", 0))
+
+    def test_used(self):
+        found = used(Metre((1, 1)), Book([(1, 1, -1)]), (0, "01"), (1, ""))
+        self.assertEqual(found, (((1, 1, -1),), ((1, 1, -1),)))
+
+    def test_hearing(self):
+        found = heard(Metre((1, 1)), Book(), [(1, 3)], (1, 12), 3)
+        self.assertEqual(found, ("heard", 4, ((0, "01"),), {(0, (0, "01")): 1, (0, (0, "011")): 2}))
+        self.assertEqual(allowed(Metre((1, 1)), (1, 3), (1, 12), 3), [(0, "01"), (0, "011")])
+
+    def test_rhythms_and_rows(self):
+        rhythm = Rhythm(4, [((0, ""), "tone"), ((1, "1"), "tone"), ((3, ""), "rest")])
+        self.assertEqual((rhythm.span(1), rhythm.at((2, ""))), (((1, "1"), (3, "")), 1))
+        self.assertEqual(rhythm.part(1, 4).notes, (((0, ""), "tone"), ((0, "1"), "tone"), ((2, ""), "rest")))
+        row = [Metre((1, 1)), Metre((1, 1))]
+        self.assertEqual(pieces(rhythm, row)[1], [(1, (0, ""), (1, "")), (2, (1, ""), (2, ""))])
+        self.assertEqual((signs(rhythm, row, Book()), ties(rhythm, row, Book())), (5, 2))
+        self.assertEqual(best_row(rhythm, [Metre(1), Metre((1, 1))], Book()), (5, (1, 1)))
 
 
 if __name__ == "__main__":

@@ -8,6 +8,7 @@ from pathlib import Path
 
 import barscribe
 from barscribe.metres import Metre
+from barscribe.rhythms import Rhythm
 from barscribe.shapes import Book
 
 PACKAGE = Path(barscribe.__file__).parent
@@ -17,7 +18,33 @@ FUNCTIONS = {
     "shapes": {"shape": "metre x y", "is_shape": "thing"},
     "writings": {"is_writing": "metre book thing", "writings": "metre book x y"},
     "far": {"fewest": "metre book x y", "how_many": "metre book x y", "best": "metre book x y"},
+    "states": {
+        "first_states": "metre book", "is_state": "thing", "moves": "state", "moved": "book state move",
+        "states_of": "metre book * most",
+    },
+    "alike": {
+        "compare": "metre book other_metre other_book * most", "is_pair": "thing",
+        "first_pairs": "metre book other_metre other_book", "moved_pair": "book other_book pair move", "verdict": "pair",
+        "is_closed": "metre book other_metre other_book thing",
+    },
+    "losses": {
+        "loss": "metre book other_metre other_book x y", "greatest_loss": "metre book other_metre other_book * most",
+        "is_bound": "metre book other_metre other_book number thing",
+        "is_rising": "metre book other_metre other_book thing", "note_of": "metre family number",
+    },
+    "needs": {"needless": "metre book * most", "least_books": "metre book * most", "used": "metre book x y"},
+    "hearing": {
+        "allowed": "metre onset slip depth", "heard": "metre book onsets slip depth",
+        "is_hearing": "metre onsets slip depth thing", "is_least": "metre book onsets slip depth signs thing",
+        "best_points": "metre book onsets slip depth",
+    },
+    "moving": {
+        "pieces": "rhythm row", "signs": "rhythm row book", "ties": "rhythm row book", "written": "rhythm row book",
+        "best_row": "rhythm metres book", "bounds": "rhythm metres book", "is_bounds": "rhythm metres book value",
+    },
 }
+
+DEFAULTS = {"states_of": 2000, "compare": 5000, "greatest_loss": 5000, "needless": 5000, "least_books": 5000}
 
 METHODS = {
     "metres": {"Metre": {"__init__": "tree", "__eq__": None, "is_point": "thing", "level": "point", "nodes": ""}},
@@ -27,10 +54,19 @@ METHODS = {
             "__sub__": None, "__eq__": None,
         }
     },
+    "rhythms": {
+        "Rhythm": {
+            "__init__": "length notes", "__len__": "", "__eq__": None, "span": "index", "at": "moment", "part": "begin end",
+            "joined": "other",
+        }
+    },
 }
 
 # Each module uses only modules that stand before it.
-MODULES = ["errors", "metres", "shapes", "writings", "growing", "tops", "far"]
+MODULES = [
+    "errors", "metres", "shapes", "writings", "growing", "tops", "far", "states", "alike", "losses", "needs", "hearing",
+    "rhythms", "moving",
+]
 
 
 def tree_of(module):
@@ -44,7 +80,12 @@ class InterfaceTest(unittest.TestCase):
             for name, parameters in functions.items():
                 self.assertIn(name, defined)
                 function = getattr(importlib.import_module("barscribe." + module), name)
-                self.assertEqual(list(inspect.signature(function).parameters), parameters.split(), name)
+                told, _, by_name = parameters.partition(" * ")
+                found = inspect.signature(function).parameters.values()
+                self.assertEqual([part.name for part in found], told.split() + by_name.split(), name)
+                self.assertEqual([part.name for part in found if part.kind == part.KEYWORD_ONLY], by_name.split())
+                if by_name:
+                    self.assertEqual(inspect.signature(function).parameters[by_name].default, DEFAULTS[name])
 
     def test_methods_stand_in_their_class(self):
         for module, classes in METHODS.items():
@@ -59,6 +100,7 @@ class InterfaceTest(unittest.TestCase):
     def test_attributes_are_set_when_an_object_is_created(self):
         self.assertTrue({"tree", "pulses", "depth"} <= set(vars(Metre((1, 1)))))
         self.assertTrue({"shapes", "extra"} <= set(vars(Book())))
+        self.assertTrue({"length", "notes"} <= set(vars(Rhythm(1, [((0, ""), "tone")]))))
 
     def test_the_package_itself_defines_nothing(self):
         self.assertEqual((PACKAGE / "__init__.py").read_text(), "")

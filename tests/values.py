@@ -33,6 +33,8 @@ CUT = [
 
 SHAPES = [(dots, s, t) for dots in range(3) for s in range(-1, 3) for t in range(-1, 3)]
 EXTRA = [shape for shape in SHAPES if shape[1:] != (-1, -1)]
+# Those that occur within a pulse; the others occur between pulses only, or nowhere.
+DEEP = [(0, 1, 1), (0, 2, 2), (1, -1, 1), (1, 1, -1), (1, 1, 2), (1, 2, 1), (1, 2, 2), (2, -1, 2), (2, 2, -1)]
 
 
 def some_books(many, seed):

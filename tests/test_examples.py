@@ -1,15 +1,20 @@
-"""The examples of the document that use the modules that are there."""
+"""The examples of the document."""
 
 import unittest
 
 from barscribe.alike import compare
+from barscribe.canons import exact_entries, fewest_entries, most_entries
 from barscribe.far import best, fewest, how_many
+from barscribe.groups import Figure, best_grouping, frames, obstacle
 from barscribe.hearing import allowed, heard
+from barscribe.loops import are_heights, best_loop
 from barscribe.losses import greatest_loss, loss
 from barscribe.metres import Metre
 from barscribe.moving import best_row, pieces, signs, ties
 from barscribe.needs import used
 from barscribe.rhythms import Rhythm
+from barscribe.rounds import clashes, most_together, next_together
+from barscribe.scores import Score
 from barscribe.shapes import Book, shape
 
 
@@ -62,6 +67,30 @@ class ExamplesTest(unittest.TestCase):
         self.assertEqual(pieces(rhythm, row)[1], [(1, (0, ""), (1, "")), (2, (1, ""), (2, ""))])
         self.assertEqual((signs(rhythm, row, Book()), ties(rhythm, row, Book())), (5, 2))
         self.assertEqual(best_row(rhythm, [Metre(1), Metre((1, 1))], Book()), (5, (1, 1)))
+
+    def test_loops(self):
+        rhythm = Rhythm(2, [((0, ""), "tone"), ((0, "1"), "tone"), ((1, "1"), "rest")])
+        self.assertEqual(best_loop(rhythm, [Metre((1, 1))], Book())[0], (2, 1))
+        self.assertIs(are_heights(rhythm, [Metre((1, 1))], Book(), (2, 1), [0, 0]), True)
+
+    def test_groups(self):
+        figure = Figure(Metre((1, 1)), [(0, 1), (1, 3), (1, 1), (2, 1)])
+        self.assertEqual((frames(figure), best_grouping(figure, Book())), ([(0, 2), (0, 3)], (4, ((0, 2, 3),))))
+        self.assertEqual(obstacle(Figure(Metre((1, 1)), [(0, 1), (1, 3), (6, 5), (2, 1)])), ("two", 1, 2))
+
+    def test_rounds(self):
+        voices = [(4, (0,), 0), (6, (2,), 0), (6, (5,), 1)]
+        self.assertEqual((most_together(voices), next_together(voices, 2, 9)), ((2, 8, (0, 1)), (12, (0, 2))))
+        self.assertEqual(clashes((4, (0,), 0), (6, (1,), 0)), (2, (1,)))
+
+    def test_canons(self):
+        self.assertEqual((most_entries((5, (0, 1))), fewest_entries((5, (0, 1)))), (((0, 2), None), ((0, 1, 3), None)))
+        self.assertEqual(len(exact_entries((8, (0, 4)))[0]), 8)
+
+    def test_scores(self):
+        score = Score([Metre((1, 1))], Book())
+        found = score.do(("part", "a")), score.do(("play", "a", (0, "1"), (1, "1"), "tone")), score.do(("undo",))
+        self.assertEqual(found, (1, 4, 1))
 
 
 if __name__ == "__main__":

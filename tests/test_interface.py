@@ -7,8 +7,11 @@ import unittest
 from pathlib import Path
 
 import barscribe
+from barscribe.groups import Figure
 from barscribe.metres import Metre
 from barscribe.rhythms import Rhythm
+from barscribe.rounds import voice_of
+from barscribe.scores import Score
 from barscribe.shapes import Book
 
 PACKAGE = Path(barscribe.__file__).parent
@@ -42,6 +45,34 @@ FUNCTIONS = {
         "pieces": "rhythm row", "signs": "rhythm row book", "ties": "rhythm row book", "written": "rhythm row book",
         "best_row": "rhythm metres book", "bounds": "rhythm metres book", "is_bounds": "rhythm metres book value",
     },
+    "loops": {
+        "bar_signs": "rhythm metre book pulse", "rate": "rhythm metres book loop", "best_loop": "rhythm metres book",
+        "heights": "rhythm metres book", "are_heights": "rhythm metres book fraction value",
+    },
+    "groups": {
+        "frames": "figure", "least_frame": "figure index", "obstacle": "figure", "is_obstacle": "figure value",
+        "count_groupings": "figure", "groupings": "figure", "grouping_signs": "figure book groups",
+        "best_grouping": "figure book", "floors": "figure book", "are_floors": "figure book value",
+        "group_writing": "figure book groups",
+    },
+    "rounds": {
+        "voice_of": "rhythm depth entry", "sounds_at": "voices time", "classes": "voices",
+        "next_together": "voices number time", "most_together": "voices", "count_together": "voices number low high",
+        "clashes": "one other", "next_clear": "one other delay",
+    },
+    "canons": {
+        "most_entries": "wheel", "fewest_entries": "wheel", "exact_entries": "wheel", "are_clear": "wheel value",
+        "are_full": "wheel value", "is_refutation": "wheel word number value",
+    },
+    "judging": {
+        "journal_of": "score", "first_wrong": "metres book journal", "replayed": "metres book journal",
+        "is_written": "score name value",
+    },
+    "texts": {
+        "tree_text": "tree", "moment_text": "moment", "book_text": "book", "score_text": "score", "read_tree": "text",
+        "read_moment": "text", "read_book": "text", "read_score": "text",
+    },
+    "console": {"replies": "text"},
 }
 
 DEFAULTS = {"states_of": 2000, "compare": 5000, "greatest_loss": 5000, "needless": 5000, "least_books": 5000}
@@ -60,12 +91,20 @@ METHODS = {
             "joined": "other",
         }
     },
+    "groups": {"Figure": {"__init__": "metre borders", "__len__": "", "__eq__": None, "kind": "index"}},
+    "scores": {
+        "Score": {
+            "__init__": "metres book", "__eq__": None, "rhythm": "name", "signs": "name", "written": "name", "do": "deed",
+            "do_all": "deeds", "attempt": "work", "log": "", "twin": "",
+        }
+    },
+    "console": {"Console": {"__init__": "", "reply": "line"}},
 }
 
 # Each module uses only modules that stand before it.
 MODULES = [
     "errors", "metres", "shapes", "writings", "growing", "tops", "far", "states", "alike", "losses", "needs", "hearing",
-    "rhythms", "moving",
+    "rhythms", "moving", "loops", "groups", "rounds", "canons", "scores", "judging", "texts", "console",
 ]
 
 
@@ -101,6 +140,13 @@ class InterfaceTest(unittest.TestCase):
         self.assertTrue({"tree", "pulses", "depth"} <= set(vars(Metre((1, 1)))))
         self.assertTrue({"shapes", "extra"} <= set(vars(Book())))
         self.assertTrue({"length", "notes"} <= set(vars(Rhythm(1, [((0, ""), "tone")]))))
+        self.assertTrue({"metre", "borders"} <= set(vars(Figure(Metre(1), [(0, 1), (1, 1)]))))
+        self.assertTrue({"bars", "book", "names"} <= set(vars(Score([Metre(1)], Book()))))
+
+    def test_default_values(self):
+        self.assertEqual(inspect.signature(voice_of).parameters["entry"].default, 0)
+        self.assertIsNone(inspect.signature(Score.signs).parameters["name"].default)
+        self.assertEqual(inspect.signature(Book).parameters["shapes"].default, ())
 
     def test_the_package_itself_defines_nothing(self):
         self.assertEqual((PACKAGE / "__init__.py").read_text(), "")

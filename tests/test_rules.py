@@ -85,13 +85,23 @@ class RulesTest(unittest.TestCase):
         for where, function in self.each(ast.FunctionDef):
             self.assertLessEqual(function.end_lineno - function.lineno + 1, 40, where)
 
+    def plain_value(self, value, functions):
+        """A value at module level is a literal, or a dict from literals to literals and functions that stand above it."""
+        if isinstance(value, ast.Dict):
+            for part in value.keys + [item for item in value.values if getattr(item, "id", None) not in functions]:
+                self.assertNotIsInstance(ast.literal_eval(part), (list, dict))
+        else:
+            ast.literal_eval(value)
+
     def test_module_level(self):
         for path in FILES:
             tree = ast.parse(path.read_text())
-            bound = []
+            bound, functions = [], []
             for item in tree.body:
+                if isinstance(item, ast.FunctionDef):
+                    functions.append(item.name)
                 if isinstance(item, ast.Assign):
-                    ast.literal_eval(item.value)
+                    self.plain_value(item.value, functions)
                     self.assertEqual([type(target) for target in item.targets], [ast.Name], path)
                     bound.append(item.targets[0].id)
                 elif isinstance(item, (ast.FunctionDef, ast.ClassDef)):
@@ -122,6 +132,53 @@ class RulesTest(unittest.TestCase):
         for where, item in self.each(ast.FunctionDef, ast.ClassDef):
             allowed = {"property", "staticmethod", "classmethod"}
             self.assertTrue(all(getattr(mark, "id", None) in allowed for mark in item.decorator_list), where)
+
+    def test_stars_and_errors(self):
+        plain = (ast.Name, ast.Attribute)
+        for where, item in self.each(ast.Call):
+            for part in item.args:
+                self.assertTrue(not isinstance(part, ast.Starred) or isinstance(part.value, plain), where)
+            if isinstance(item.func, ast.Name) and item.func.id in ("sorted", "min", "max", "sum", "any", "all"):
+                self.assertTrue({part.arg for part in item.keywords} <= {"default", "key"}, where)
+            else:
+                self.assertTrue(all(part.arg is not None for part in item.keywords), where)
+        for where, item in self.each(ast.List, ast.Tuple):
+            for part in item.elts:
+                self.assertTrue(not isinstance(part, ast.Starred) or isinstance(part.value, plain), where)
+        for where, item in self.each(ast.ExceptHandler):
+            self.assertEqual(getattr(item.type, "id", None), "RhythmError", where)
+        for where, item in self.each(ast.Raise):
+            self.assertTrue(item.exc is None or isinstance(item.exc, ast.Call) and item.cause is None, where)
+        for where, item in self.each(ast.Compare):
+            for sign, part in zip(item.ops, item.comparators):
+                if isinstance(sign, (ast.Is, ast.IsNot)):
+                    self.assertTrue(isinstance(part, ast.Constant) and part.value in (None, True, False), where)
+
+    def test_what_stands_in_a_finally(self):
+        for where, item in self.each(ast.Try):
+            for part in [inner for row in item.finalbody for inner in ast.walk(row)]:
+                allowed = (
+                    ast.If, ast.Compare, ast.Assign, ast.Name, ast.Attribute, ast.Load, ast.Store, ast.IsNot, ast.Is, ast.Constant,
+                )
+                self.assertIsInstance(part, allowed, where)
+
+    def test_loops_do_not_change_what_they_go_over(self):
+        for where, item in self.each(ast.For):
+            over = {part.id for part in ast.walk(item.iter) if isinstance(part, ast.Name)}
+            called = getattr(item.iter, "func", None)
+            if getattr(called, "id", None) in ("list", "sorted", "range"):
+                continue
+            for part in [inner for row in item.body for inner in ast.walk(row)]:
+                if isinstance(part, ast.Subscript) and isinstance(part.ctx, (ast.Store, ast.Del)):
+                    self.assertNotIn(getattr(part.value, "id", None), over, where)
+                if isinstance(part, ast.Call) and getattr(part.func, "attr", None) in ("append", "extend", "pop", "clear", "setdefault"):
+                    self.assertNotIn(getattr(part.func.value, "id", None), over, where)
+
+    def test_returns_of_len(self):
+        for where, item in self.each(ast.FunctionDef):
+            if item.name == "__len__":
+                last = item.body[-1]
+                self.assertEqual((type(last), getattr(last.value, "func", ast.Name("")).id), (ast.Return, "len"), where)
 
     def test_strings(self):
         for path in FILES:

@@ -124,8 +124,7 @@ class Turning:
             entries, filled = waiting.pop()
             if len(entries) > len(found):
                 found = entries
-            later = range(entries[-1] + 1, self.steps)
-            fitting = [entry for entry in later if self.fills[entry] & filled == 0]
+            fitting = [entry for entry in range(entries[-1] + 1, self.steps) if self.fills[entry] & filled == 0]
             if len(entries) + min(len(fitting), self.free(filled) // self.many) > len(found):
                 waiting.extend(self._each_with(entries, filled, fitting))
         return found

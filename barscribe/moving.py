@@ -9,6 +9,10 @@ from barscribe.tops import DEPTH
 MOST_BARS = 240
 MOST_METRES = 12
 
+# A machine looks at all sides of a metre before it tells of a note; for at most so many notes for each pulse of the
+# metre it is faster to do without.
+FEW = 8
+
 
 def _are_metres(thing, most):
     """Whether any value is a list of metres, with at least one and at most so many."""
@@ -61,20 +65,28 @@ class Bars:
 
     def __init__(self, book):
         self.book = book
+        self.asked = {}
         self.machines = {}
         self.fars = {}
 
     def signs_of(self, metre, x, y):
         """The fewest signs of a note."""
+        asked = self.asked.get(metre.tree, 0)
+        if asked < FEW * metre.pulses:
+            self.asked[metre.tree] = asked + 1
+            return self._far(metre).signs_of(x, y)
         if metre.tree not in self.machines:
             self.machines[metre.tree] = Machine(metre, self.book)
         return self.machines[metre.tree].signs_of(x, y)
 
     def best(self, metre, x, y):
         """The first writing with the fewest signs of a note."""
+        return self._far(metre).entry_of(x, y, True)[2]
+
+    def _far(self, metre):
         if metre.tree not in self.fars:
             self.fars[metre.tree] = Far(metre, self.book, metre.pulses << DEPTH)
-        return self.fars[metre.tree].entry_of(x, y, True)[2]
+        return self.fars[metre.tree]
 
     def bar_signs(self, rhythm, metre, begin):
         """The number of signs of the bar that begins at this pulse."""

@@ -99,7 +99,7 @@ def _meetings(voices):
             merged = _merged(period, rests, length, places)
             if merged:
                 found[(*indexes, index)] = (max(begin, entry), lcm(period, length), merged)
-    return {indexes: found[indexes] for indexes in found if indexes != ()}
+    return {some: found[some] for some in found if some != ()}
 
 
 def _merged(period, rests, length, places):

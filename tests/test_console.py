@@ -296,6 +296,15 @@ signs/0"""
         self.assertEqual(console.reply("signs"), str(8 * 15))
         self.assertTrue(issubclass(errors.TooMany, RhythmError))
 
+    def test_indexes_with_two_digits(self):
+        console = Console()
+        console.reply("part a")
+        self.assertEqual([console.reply("bar 0 1") for _ in range(11)][-1], "12")
+        self.assertEqual([console.reply("bar 10 (1 1 1)"), console.reply("metre 10 (1 (1 1))"), console.reply("bar 13 1")], ["13", "13", "14"])
+        self.assertEqual([console.reply("bar 99 1"), console.reply("metre 14 1"), console.reply("drop 14")], ["error badbar"] * 3)
+        self.assertEqual([console.reply("drop 13"), console.reply("drop 10")], ["13", "12"])
+        self.assertEqual(console.reply("text"), "book; " + "bar 1; " * 11 + "bar (1 1); part a; " + " rest; ".join(map(str, range(12))) + " rest")
+
     def test_consoles_have_scores_of_their_own(self):
         one, other = Console(), Console()
         one.reply("part a")

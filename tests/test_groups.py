@@ -321,6 +321,14 @@ class ObstacleTest(unittest.TestCase):
                     self.assertIs(is_obstacle(figure, ("two", index, other)), ("two", index, other) in two)
         self.assertGreater(min(seen.values()), 5)
 
+    def test_one_that_is_inside_the_frame_of_another_one_but_not_the_other_way_round(self):
+        figure = Figure(Metre((1, 1)), [(0, 1), (1, 6), (1, 2), (6, 5), (2, 1)])
+        self.assertEqual([least_frame(figure, index) for index in (1, 3)], [(0, 2), (0, 4)])
+        self.assertEqual(obstacle(figure), ("two", 3, 1))
+        self.assertIs(is_obstacle(figure, ("two", 3, 1)), True)
+        self.assertIs(is_obstacle(figure, ("two", 1, 3)), False)
+        self.assertEqual((count_groupings(figure), list(groupings(figure))), (0, []))
+
     def test_a_kind_of_its_own_with_a_frame(self):
         figure = Figure(Metre(1), [(0, 1), (1, 9), (1, 3), (1, 1)])
         self.assertEqual(obstacle(figure=figure), ("alone", 1))
@@ -339,7 +347,8 @@ class ObstacleTest(unittest.TestCase):
             self.assertIs(is_obstacle(figure, value), False)
         lonely = Figure(Metre((1, 1, 1)), [(0, 1), (1, 3), (2, 1), (3, 1)])
         self.assertIs(is_obstacle(lonely, ("alone", 1)), True)
-        for value in OTHERS + [("alone", True), ("alone", 0), ("alone", 2), ("alone", 4), ["alone", 1], ("two", 1, 1)]:
+        others = [("alone", True), ("alone", 0), ("alone", 2), ("alone", 4), ["alone", 1], ("two", 1, 1), ("two", 1), ("Alone", 1), (None, 1)]
+        for value in OTHERS + others:
             self.assertIs(is_obstacle(lonely, value), False)
 
 

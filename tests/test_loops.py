@@ -140,6 +140,10 @@ class RateTest(unittest.TestCase):
         for loop in OTHERS + wrong:
             with self.assertRaises(BadLoop):
                 rate(rhythm, metres, Book(), loop)
+        short = Rhythm(1, [((0, ""), TONE)])
+        self.assertEqual(rate(short, metres, Book(), (0, (1,) * 240)), (1, 1))
+        with self.assertRaises(BadLoop):
+            rate(short, metres, Book(), (0, (1,) * 241))
 
 
 class BestTest(unittest.TestCase):

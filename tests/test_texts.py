@@ -250,6 +250,13 @@ class ScoreTest(TextCase):
         with self.assertRaises(NothingDone):
             score.do(("undo",))
 
+    def test_equal_scores_have_equal_parts(self):
+        others = [TEXT.replace("tone\npart", "rest\npart").replace("1.1 rest", "1.1 tone"), joined(LINES[:7]), TEXT.replace("(1 1) 1", "1 (1 1)")]
+        others += [TEXT.replace(" 1:-1:1", ""), TEXT.replace("bass", "bas"), TEXT.replace("0.1 tone", "0.01 tone")]
+        for other in others:
+            self.assertFalse(read_score(other) == read_score(TEXT))
+        self.assertTrue(read_score(TEXT) == read_score(TEXT))
+
     def test_ends(self):
         self.wrong(read_score, "", 0)
         self.wrong(read_score, "\n", 0)
@@ -315,6 +322,7 @@ class ScoreTest(TextCase):
         self.wrong(read_score, head + "part b\n0 tone\npart a\n0 tone\n", 4)
         self.wrong(read_score, head + "part b\n0 tone\npart az\n0 tone\n", 4)
         self.assertEqual(read_score(head + "part a\n0 tone\npart aa\n0 tone\npart b\n0 tone\n").names, ("a", "aa", "b"))
+        self.wrong(read_score, head + "part a\n0 tone\npart c\n0 tone\npart b\n0 tone\n", 6)
         self.wrong(read_score, head + "part a\n0 tone\n0 rest\n", 4)
         self.wrong(read_score, head + "part a\n0 tone\n2 rest\n1.1 rest\n", 5)
         self.wrong(read_score, head + "part a\n0 tone\n2.1 rest\n2.1 rest\n", 5)

@@ -98,7 +98,8 @@ def _meetings(voices):
             begin, period, rests = found[indexes]
             merged = _merged(period, rests, length, places)
             if merged:
-                found[(*indexes, index)] = (max(begin, entry), lcm(period, length), merged)
+                longer = (*indexes, index)
+                found[longer] = (max(begin, entry), lcm(period, length), merged)
     return {some: found[some] for some in found if some != ()}
 
 

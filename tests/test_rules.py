@@ -62,6 +62,12 @@ def bound_names(function):
     return names + [item.id for item in ast.walk(function) if isinstance(item, ast.Name) and isinstance(item.ctx, ast.Store)]
 
 
+def starred_indexes(tree):
+    """The rows of all indexes that have a star somewhere in their brackets."""
+    indexes = [item for item in ast.walk(tree) if isinstance(item, ast.Subscript)]
+    return [item.lineno for item in indexes if any(isinstance(part, ast.Starred) for part in ast.walk(item.slice))]
+
+
 class RulesTest(unittest.TestCase):
     def each(self, *kinds):
         for path in FILES:
@@ -153,6 +159,16 @@ class RulesTest(unittest.TestCase):
             for sign, part in zip(item.ops, item.comparators):
                 if isinstance(sign, (ast.Is, ast.IsNot)):
                     self.assertTrue(isinstance(part, ast.Constant) and part.value in (None, True, False), where)
+
+    def test_no_star_in_an_index(self):
+        for path in FILES:
+            self.assertEqual(starred_indexes(ast.parse(path.read_text())), [], path)
+
+    def test_a_star_in_an_index_is_seen(self):
+        for text in ("d[(*xs, 1)] = 2", "d[*xs, 1]", "d[len([*xs])]", "d[max(*xs)]", "d[0][1:f((*xs, 1))]", "del d[(1, *xs)]"):
+            self.assertEqual(starred_indexes(ast.parse(text)), [1], text)
+        for text in ("both = (*xs, 1)\nd[both] = 2", "[*xs, 1][0]", "f(*xs)[1]", "d[xs + (1,)]", "d[1] = (*xs, 2)"):
+            self.assertEqual(starred_indexes(ast.parse(text)), [], text)
 
     def test_what_stands_in_a_finally(self):
         for where, item in self.each(ast.Try):
